@@ -318,3 +318,12 @@ func TestTopAsksNobodyForNothing(t *testing.T) {
 		t.Error(got)
 	}
 }
+
+func TestTopDoesNotPanicWithNobodyToAsk(t *testing.T) {
+	defer func() {
+		if e := recover(); e != nil {
+			t.Error(e)
+		}
+	}()
+	rank.Top([]api.Key{key(1, 1, 1)}, 1, nil)
+}
