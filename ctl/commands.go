@@ -21,17 +21,17 @@ const (
 	textLetter   = 't'
 )
 
-// command is what is done for a command: its form has a letter for each argument.
-type command struct {
+// action is what is done for a command: its form has a letter for each argument.
+type action struct {
 	form    string
 	settles bool
 	run     func(args []any) any // returns an api.Errno, numbers or a text
 }
 
-func (x *Ctl) commands() map[string]command {
+func (x *Ctl) actions() map[string]action {
 	release := func(id uint32) api.Errno { return x.table.Release(id, x.now) }
 	cancel := func(id uint32) api.Errno { return x.end(id, api.JobCancelled) }
-	return map[string]command{
+	return map[string]action{
 		submitHead: {"t", true, x.submit},
 		"hold":     {"n", true, onJob(x.table.Hold)},
 		"release":  {"n", true, onJob(release)},
@@ -48,24 +48,24 @@ func (x *Ctl) commands() map[string]command {
 }
 
 // Do carries a command out.
-func (x *Ctl) Do(text string) string {
+func (x *Ctl) Do(command string) string {
 	if x == nil {
 		return failure(api.ErrNil)
 	}
-	words := split(text)
-	c, known := x.commands()[words[0]]
+	words := split(command)
+	a, known := x.actions()[words[0]]
 	if !known {
 		return failure(api.ErrText)
 	}
-	args, ok := read(c.form, words[1:])
+	args, ok := read(a.form, words[1:])
 	if !ok {
 		return failure(api.ErrText)
 	}
-	result := c.run(args)
+	result := a.run(args)
 	if e, isErrno := result.(api.Errno); isErrno && e != api.OK {
 		return failure(e)
 	}
-	if c.settles {
+	if a.settles {
 		x.settle()
 	}
 	return "ok" + write(result)

@@ -232,15 +232,17 @@ func TestTicks(t *testing.T) {
 func TestResultsAreNewMemory(t *testing.T) {
 	x := controller(t, config(api.PolicyEasy, 1))
 	all(t, x, sized(1, 3, "array=1-2", "dependency=singleton"), "down main 1", "tick 3", "tick 1")
-	before := snapshot(x)
-	x.Book()[0].ID = 77
-	x.Failed(0)[0] = 77
-	x.Runs()[0] = 77
-	j := get(t, x, 1)
-	j.Spec.Array.L[0], j.Spec.Depend.L[0].Kind = 77, 77
-	_ = append(x.Book(), api.Charge{ID: 9})
-	if !reflect.DeepEqual(snapshot(x), before) {
-		t.Error("results share memory with what is kept")
+	for range 2 {
+		book, failed, runs, j := x.Book(), x.Failed(0), x.Runs(), get(t, x, 1)
+		if len(book) != 1 || book[0].ID != 1 || len(failed) != 1 || failed[0] != 1 || len(runs) != 1 || runs[0] != 2 {
+			t.Error(book, failed, runs)
+		}
+		if j.Spec.Array.L[0] != 1 || j.Spec.Depend.L[0].Kind != api.NeedSingleton {
+			t.Error(j)
+		}
+		book[0].ID, failed[0], runs[0] = 77, 77, 77
+		j.Spec.Array.L[0], j.Spec.Depend.L[0].Kind = 77, 77
+		_ = append(x.Book(), api.Charge{ID: 9})
 	}
 	if y := controller(t, config(api.PolicyEasy, 1)); y.Jobs() != 0 || len(y.Failed(0)) != 0 || y.Now() != 0 {
 		t.Error("controllers are not independent")

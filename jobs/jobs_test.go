@@ -518,40 +518,43 @@ func TestRanAddsUp(t *testing.T) {
 }
 
 func TestJobsAreCopies(t *testing.T) {
-	x := table(t)
-	s := with(func(s *api.Spec) {
+	full := func(s *api.Spec) {
 		s.Array.L = []int{1, 2}
 		s.Depend.L = []api.Need{{Kind: 1, Jobs: []uint32{5, 6}}}
-	})
-	l := submit(t, x, s, 0)
-	want := []api.Job{get(t, x, 1), get(t, x, 2)}
-	check := func() {
+	}
+	spoil := func(s api.Spec) {
+		s.Array.L[0], s.Depend.L[0].Jobs[0], s.Depend.L[0].Kind = 77, 77, 3
+		_ = append(s.Array.L[:1], 78)
+	}
+	x := table(t)
+	given := with(full)
+	l := submit(t, x, given, 0)
+	check := func(when string) {
 		t.Helper()
-		if got := all(x); !reflect.DeepEqual(got, want) {
-			t.Errorf("%+v", got)
+		for id := uint32(1); id <= 2; id++ {
+			if j := get(t, x, id); j.ID != id || !reflect.DeepEqual(j.Spec, with(full)) {
+				t.Errorf("after %s: %+v", when, j)
+			}
 		}
 	}
-	kept := with(func(s *api.Spec) {
-		s.Array.L = []int{1, 2}
-		s.Depend.L = []api.Need{{Kind: 1, Jobs: []uint32{5, 6}}}
-	})
-	if !reflect.DeepEqual(want[0].Spec, kept) || !reflect.DeepEqual(want[1].Spec, kept) {
-		t.Error(want)
-	}
-	s.Array.L[0], s.Depend.L[0].Jobs[0] = 77, 77
-	s.Depend.L[0].Kind = 3
+	check("Submit")
+	spoil(given)
 	l[0] = 77
-	check()
-	j := get(t, x, 1)
-	j.Spec.Array.L[0], j.Spec.Depend.L[0].Jobs[0] = 77, 77
-	j.Spec.Depend.L[0].Kind = 3
-	check()
+	check("a change of the argument")
+	spoil(get(t, x, 1).Spec)
+	check("a change of the first job")
+	spoil(get(t, x, 2).Spec)
+	check("a change of the second job")
+	a, b := get(t, x, 1), get(t, x, 1)
+	spoil(a.Spec)
+	if !reflect.DeepEqual(b.Spec, with(full)) {
+		t.Error("two results share memory")
+	}
 	x.List(api.JobWaiting)[0] = 77
 	if !slices.Equal(x.List(api.JobWaiting), []uint32{1, 2}) {
 		t.Error(x.List(api.JobWaiting))
 	}
-	y := table(t)
-	if y.Len() != 0 {
+	if y := table(t); y.Len() != 0 {
 		t.Error("tables are not independent")
 	}
 }
