@@ -226,6 +226,9 @@ func TestUsage(t *testing.T) {
 			}
 		}
 	}
+	if n, e := book.Usage(l[2:], "bob", 9, 10); n != 0 || e != api.ErrArg {
+		t.Error(n, e)
+	}
 	for _, x := range [][2]int{{20, 0}, {-1, 10}, {api.MaxTicks + 1, 10}, {20, api.MaxTicks + 1}} {
 		if n, e := book.Usage(nil, "ann", x[0], x[1]); n != 0 || e != api.ErrArg {
 			t.Error(x, n, e)

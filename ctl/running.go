@@ -22,14 +22,6 @@ func (x *Ctl) ran(j api.Job) int {
 	return num.Sum(j.Ran, x.now-j.Started)
 }
 
-// start lets a job run on a block that is free.
-func (x *Ctl) start(j api.Job, b api.Block) {
-	x.table.Start(j.ID, x.now, b)
-	if !x.isGang() {
-		x.yards[j.Part].TakeAt(b)
-	}
-}
-
 // end ends a job.
 func (x *Ctl) end(id uint32, how int) api.Errno {
 	j, _ := x.table.Get(id)

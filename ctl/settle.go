@@ -51,9 +51,9 @@ func (x *Ctl) endNever() []api.Job {
 	}
 }
 
-// start lets a job run on a block that is free.
+// start lets a job run on a block that was taken for it.
 func (s *settling) start(id uint32, b api.Block) {
-	s.Ctl.start(s.jobs[id-1], b)
+	s.table.Start(id, s.now, b)
 	s.jobs[id-1], _ = s.table.Get(id)
 }
 
@@ -77,7 +77,7 @@ func (s *settling) startPlanned(part int) bool {
 		return false
 	}
 	at := slices.IndexFunc(slots, func(slot api.Slot) bool { return slot.At == s.now })
-	if at < 0 {
+	if at < 0 || s.yards[part].TakeAt(slots[at].Block) != api.OK {
 		return false
 	}
 	s.start(slots[at].ID, slots[at].Block)

@@ -140,6 +140,8 @@ func TestRankBySize(t *testing.T) {
 	// What counts is the block of four, and the partition has four workers: the priorities are 99 and 100.
 	wantFirst(t, c, nil, job("size=4", "nice=1"), job("size=3"), 2)
 	wantFirst(t, c, nil, job("size=4"), job("size=3", "nice=1"), 1)
+	// The priorities are 25 and 40.
+	wantFirst(t, c, nil, job("size=1"), job("size=4", "nice=60"), 2)
 	c.Weights.Size = 4
 	wantFirst(t, c, nil, job("size=3", "nice=2"), job("size=4", "nice=3"), 1)
 }
@@ -259,8 +261,27 @@ func TestAJobWaitsForOneThatStartsNow(t *testing.T) {
 	x = controller(t, c)
 	all(t, x, sized(1, 5, "hold", "partition=b"), sized(1, 5, "dependency=after:1"), "release 1")
 	states(t, x, r, w)
+	x.Do("jobs")
+	x.Do("book")
+	do(t, x, "hold 1", "error 130")
+	states(t, x, r, w)
 	all(t, x, "tick 1")
 	states(t, x, r, r)
+	x = controller(t, c)
+	all(t, x, sized(1, 5, "begin=1", "partition=b"), sized(1, 5, "dependency=after:1"), "tick 1")
+	states(t, x, r, w)
+	all(t, x, "tick 1")
+	states(t, x, r, r)
+}
+
+func TestAJobThatIsHeldDelaysNobody(t *testing.T) {
+	for _, change := range []string{"hold 2", "cancel 2"} {
+		x := controller(t, config(api.PolicyFIFO, 1))
+		all(t, x, sized(1, 50), sized(2, 50), sized(1, 50))
+		states(t, x, r, w, w)
+		all(t, x, change)
+		runs(t, x, 1, 3)
+	}
 }
 
 func TestPartitionsAreIndependent(t *testing.T) {
@@ -268,7 +289,9 @@ func TestPartitionsAreIndependent(t *testing.T) {
 		c := config(policy, 1)
 		c.Parts = append(c.Parts, api.Part{Name: "b", Order: 2, Limit: 99}, api.Part{Name: "c", Order: 0, Limit: 99})
 		x := controller(t, c)
-		all(t, x, "down b 0", sized(2, 50), sized(2, 50, "partition=b", "hold"), sized(1, 50, "partition=c"), "down c 0", "down main 0")
+		all(t, x, "down b 0", sized(2, 50), sized(2, 50, "partition=b", "hold"), sized(1, 50, "partition=c"), "down c 0")
+		states(t, x, r, h, api.JobFailed)
+		all(t, x, "down main 0")
 		states(t, x, api.JobFailed, h, api.JobFailed)
 		all(t, x, "up b 0", "release 2")
 		states(t, x, api.JobFailed, r, api.JobFailed)
